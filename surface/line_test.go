@@ -3,6 +3,7 @@ package surface_test
 import (
 	"math"
 	"math/rand"
+	"slices"
 	"testing"
 
 	"flatland/api"
@@ -130,6 +131,26 @@ func TestLineRandom(t *testing.T) {
 	}
 	if corners < 20 || steps < 300 {
 		t.Errorf("%d steps and %d corners", steps, corners)
+	}
+}
+
+// P3.7: lines in faces with many reflex corners, from any of their edges on, compared with the definition.
+func TestNextFaces(t *testing.T) {
+	r := rand.New(rand.NewSource(24))
+	for what, edges := range hardFaces() {
+		for k := range edges {
+			s := alone(slices.Concat(edges[k:], edges[:k]))
+			for range 60 {
+				d := 2 + r.Intn(9)
+				c := crossing(slot(r.Intn(2), r.Intn(len(edges))), 1+r.Intn(d-1), d, r.Intn(17)-8, r.Intn(17)-8)
+				if pointOf(edge(s, c.At)).cross(pointOf(c.Dir)).Sign() <= 0 {
+					continue
+				}
+				n, e := surface.Next(s, c)
+				m, f := next(s, c)
+				wantSame(t, "Next in "+what, sameCrossing, n, e, m, f)
+			}
+		}
 	}
 }
 

@@ -95,9 +95,6 @@ func (x *body) match(y *body, first api.Slot) ([]api.Slot, bool) {
 	for work := []int{0}; len(work) > 0; {
 		f := work[len(work)-1]
 		work = work[:len(work)-1]
-		if len(x.faces[f]) != len(y.faces[m[f].Face]) {
-			return nil, false
-		}
 		for e, to := range x.glue[f] {
 			if !known[to.Face] {
 				known[to.Face] = true

@@ -54,19 +54,10 @@ func (p plane) circle(to [3]api.Vec) int {
 	return p.Sign(sum)
 }
 
-// meet reports whether the segment from a with the vector u and the one from b with the vector v have a point in common.
+// meet reports whether the segment from a with the vector u and the one from b with the vector v, which is not parallel to u, have a point in common.
 func (p plane) meet(a, u, b, v api.Vec) bool {
-	w := p.minus(b, a)
-	d := p.Cross(u, v)
-	if p.Sign(d) != 0 {
-		return p.isPart(p.Cross(w, v), d) && p.isPart(p.Cross(w, u), d)
-	}
-	if p.turn(w, u) != 0 {
-		return false
-	}
-	length, begin := p.dot(u, u), p.dot(w, u)
-	end := p.Add(begin, p.dot(v, u))
-	return (p.Sign(begin) >= 0 || p.Sign(end) >= 0) && (p.Cmp(begin, length) <= 0 || p.Cmp(end, length) <= 0)
+	w, d := p.minus(b, a), p.Cross(u, v)
+	return p.Sign(d) != 0 && p.isPart(p.Cross(w, v), d) && p.isPart(p.Cross(w, u), d)
 }
 
 // isPart reports whether x/d is from 0 to 1, d not being 0.

@@ -34,7 +34,7 @@ func (p plane) isRight(edges []api.Vec) bool {
 	return p.Sign(p.doubleArea(corners)) > 0 && p.isSimple(edges, corners)
 }
 
-// isSimple reports whether neighbours have just their corner in common, and other edges no point.
+// isSimple reports whether neighbours have just their corner in common, and other edges no point. Parallel edges need not be compared, unless they are neighbours: if they meet, then one of the straight lines that they are part of begins or ends on the other one, and the next edge there, which is not parallel, meets it too.
 func (p plane) isSimple(edges, corners []api.Vec) bool {
 	n := len(edges)
 	for i, u := range edges {

@@ -75,10 +75,10 @@ func (b *body) beyond(v view, add func(from, to api.Slot, v api.Vec), look func(
 	}
 }
 
-// isNear reports whether the squared distance of what is seen of the edge of a view is at most square.
+// isNear reports whether the squared distance of what is seen of the edge of a view is less than square; if not, all that is behind the edge is too far away.
 func (b *body) isNear(v view, square api.Num) bool {
 	edge := b.minus(v.left, v.right)
-	nearest := api.Vec{X: edge.Y, Y: b.negative(edge).X}
+	nearest := api.Vec{X: edge.Y, Y: b.Sub(api.Num{}, edge.X)} // at a right angle
 	switch {
 	case b.Sign(b.dot(v.low, edge)) > 0:
 		nearest = v.low
@@ -87,7 +87,7 @@ func (b *body) isNear(v view, square api.Num) bool {
 	}
 	// The line in this direction meets the edge after height/over times its vector.
 	height, over := b.Cross(v.right, v.left), b.Cross(nearest, edge)
-	return b.Cmp(b.Mul(b.dot(nearest, nearest), b.Mul(height, height)), b.Mul(square, b.Mul(over, over))) <= 0
+	return b.Cmp(b.Mul(b.dot(nearest, nearest), b.Mul(height, height)), b.Mul(square, b.Mul(over, over))) < 0
 }
 
 // compareSegments compares two segments by their corners, and those of one corner counterclockwise.

@@ -63,16 +63,21 @@ func TestTriangulate(t *testing.T) {
 	want(t, "the components", slices.Max(c), 1)
 }
 
-// P3.3: faces that are hard to cut: with many straight corners, and with long spikes.
-func TestTriangulateFaces(t *testing.T) {
-	for what, edges := range map[string][]api.Vec{
+// hardFaces returns faces with many straight corners, and with long spikes.
+func hardFaces() map[string][]api.Vec {
+	return map[string][]api.Vec{
 		"a triangle with straight corners": face(1, 0, 1, 0, 1, 0, -1, 1, -1, 1, -1, 1, 0, -1, 0, -1, 0, -1),
 		"a comb":                           face(9, 0, 0, 5, -1, 0, -1, -4, -1, 4, -1, 0, -1, -4, -1, 4, -1, 0, -1, -4, -1, 4, 0, -5),
 		"a spiral":                         face(9, 0, 0, 9, -7, 0, 0, -5, 3, 0, 0, 2, -1, 0, 0, 1, 3, 0, 0, -5, -7, 0, 0, 9, -1, 0, 1, -11),
 		"a star":                           face(4, 1, 4, -1, -1, 4, 1, 4, -4, -1, -4, 1, 1, -4, -1, -4),
 		"an edge that points at corners":   face(2, 0, 1, 0, 1, 0, 0, 1, -1, 0, 0, 1, -1, 0, 0, -1, -1, 0, 0, 1, -1, 0, 0, -2),
 		"a square with a corner on each diagonal": face(4, 0, 0, 4, -2, -2, -2, 2, 0, -4),
-	} {
+	}
+}
+
+// P3.3: faces that are hard to cut.
+func TestTriangulateFaces(t *testing.T) {
+	for what, edges := range hardFaces() {
 		want(t, "the definition of "+what, isRight(edges), true)
 		s := alone(edges)
 		d, e := surface.Triangulate(s)
