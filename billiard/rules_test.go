@@ -1,6 +1,7 @@
 package billiard_test
 
 import (
+	"maps"
 	"math"
 	"math/rand"
 	"reflect"
@@ -125,12 +126,14 @@ func TestMemory(t *testing.T) {
 // R6: Nums are read by their value: with numbers that are not in normal form all results are the same.
 func TestValues(t *testing.T) {
 	r := rand.New(rand.NewSource(15))
+	all := calls()
 	_, five := pentagon(t)
 	for _, c := range []struct {
 		p api.Table
 		s api.State
 	}{{square(), state(0, 1, 2, 1, 1)}, {angle(), state(4, 1, 2, 1, -3)}, {five, state(1, 2, 5, 1, -3)}} {
-		for name, call := range calls() {
+		for _, name := range slices.Sorted(maps.Keys(all)) {
+			call := all[name]
 			for n := range 4 {
 				code := []int{0, 2, 0, 2}[:n]
 				a := call(c.p, c.s, code, n)

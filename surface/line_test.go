@@ -1,6 +1,7 @@
 package surface_test
 
 import (
+	"maps"
 	"math"
 	"math/rand"
 	"slices"
@@ -137,7 +138,9 @@ func TestLineRandom(t *testing.T) {
 // P3.7: lines in faces with many reflex corners, from any of their edges on, compared with the definition.
 func TestNextFaces(t *testing.T) {
 	r := rand.New(rand.NewSource(24))
-	for what, edges := range hardFaces() {
+	faces := hardFaces()
+	for _, what := range slices.Sorted(maps.Keys(faces)) {
+		edges := faces[what]
 		for k := range edges {
 			s := alone(slices.Concat(edges[k:], edges[:k]))
 			for range 60 {

@@ -1,6 +1,7 @@
 package surface_test
 
 import (
+	"maps"
 	"math/rand"
 	"slices"
 	"testing"
@@ -73,7 +74,9 @@ func TestUnfoldExample(t *testing.T) {
 // P3.9: unfoldings, compared with the definition.
 func TestUnfold(t *testing.T) {
 	r := rand.New(rand.NewSource(19))
-	for what, p := range tables(t) {
+	list := tables(t)
+	for _, what := range slices.Sorted(maps.Keys(list)) {
+		p := list[what]
 		q := open(t, p.Field, api.OK)
 		u, e := surface.Unfold(untidyTable(r, p))
 		want(t, "Unfold of "+what, e, api.OK)
@@ -141,10 +144,12 @@ func TestUnfoldVertices(t *testing.T) {
 func TestFold(t *testing.T) {
 	r := rand.New(rand.NewSource(20))
 	corners, steps := 0, 0
-	for what, p := range tables(t) {
+	list := tables(t)
+	for _, what := range slices.Sorted(maps.Keys(list)) {
+		p := list[what]
 		u, _ := surface.Unfold(p)
 		all := slots(u.Surface)
-		for range 60 {
+		for range 100 {
 			d := 2 + r.Intn(3)
 			c := crossing(all[r.Intn(len(all))], 1+r.Intn(d-1), d, r.Intn(15)-7, r.Intn(15)-7)
 			q := open(t, p.Field, api.OK)
